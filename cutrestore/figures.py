@@ -1,4 +1,4 @@
-"""The package's one helper: whole numbers, and how they are written."""
+"""The package's one helper: whole numbers, how they are written, and lists of so many things."""
 
 from cutrestore.errors import NoText
 
@@ -13,6 +13,11 @@ def is_whole(thing):
 def is_within(thing, low, beyond):
     """Whether anything is a whole number from low on and below beyond."""
     return is_whole(thing) and low <= thing < beyond
+
+
+def is_list(things, least, most):
+    """Whether anything is a list or a tuple with at least and at most so many things."""
+    return isinstance(things, (list, tuple)) and least <= len(things) <= most
 
 
 def is_number_text(text):

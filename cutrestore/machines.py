@@ -2,7 +2,7 @@
 
 from cutrestore.deeds import MOST_DEEDS, is_deed, values_of
 from cutrestore.errors import BadDeed, BadMachine
-from cutrestore.figures import is_within
+from cutrestore.figures import is_list, is_within
 from cutrestore.values import worth_of
 
 MOST_MODULUS = 10 ** 12
@@ -12,9 +12,7 @@ MOST_ROW = 12
 
 def are_counted(things, least, most, modulus):
     """Whether anything is a list or a tuple of so many numbers below the modulus."""
-    if not isinstance(things, (list, tuple)) or not least <= len(things) <= most:
-        return False
-    return all([is_within(thing, 0, modulus) for thing in things])
+    return is_list(things, least, most) and all([is_within(thing, 0, modulus) for thing in things])
 
 
 def refuse_machine(modulus, numbers, row, deeds):

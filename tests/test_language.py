@@ -21,6 +21,8 @@ OWN_METHODS = set(
     "setdefault split splitlines startswith strip update upper values zfill bit_length title capitalize swapcase "
     "casefold center removeprefix removesuffix rindex isascii isdecimal add discard sort".split()
 )
+WALKED = {"zip", "enumerate", "reversed", "range"}
+WALKERS = {"list", "tuple", "dict", "sorted", "sum", "any", "all", "enumerate", "zip", "min", "max"}
 UNDERSCORED = {"__init__", "__eq__", "__repr__", "__str__", "__len__"}
 UNSAID = re.compile(
     r"\b(type|typing|typing_extensions|enum|Enum|IntEnum|StrEnum|Flag|IntFlag|Generic|Protocol|ABC|ABCMeta|"
@@ -169,6 +171,16 @@ class LanguageTest(unittest.TestCase):
             self.assertIsInstance(node.ctx, ast.Store, (name, node.lineno))
         for name, node in self.walk(ast.ExceptHandler):
             self.assertIsNotNone(node.type, (name, node.lineno))
+
+    def test_what_is_walked_is_walked_at_once(self):
+        for name, tree in self.trees.items():
+            walked = [node.iter for node in ast.walk(tree) if isinstance(node, (ast.For, ast.comprehension))]
+            for node in ast.walk(tree):
+                if isinstance(node, ast.Call) and isinstance(node.func, ast.Name) and node.func.id in WALKERS:
+                    walked += node.args
+            for node in ast.walk(tree):
+                if isinstance(node, ast.Call) and isinstance(node.func, ast.Name) and node.func.id in WALKED:
+                    self.assertIn(node, walked, (name, node.lineno))
 
     def test_written_values(self):
         for name, node in self.walk(ast.Constant):

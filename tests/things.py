@@ -1,6 +1,7 @@
 """The tests' one helper: wrong things, and machines that many tests use."""
 
 from cutrestore.machines import Machine
+from cutrestore.nets import Net
 
 # Things of all kinds that are no value, no deed, no machine, no way, no text of one.
 WRONG_THINGS = [
@@ -27,3 +28,43 @@ def copied(thing):
     if isinstance(thing, (list, tuple)):
         return type(thing)([copied(part) for part in thing])
     return thing
+
+
+def random_value(chance, many):
+    """Any value, by a source of chance that the test has set."""
+    number = chance.choice([0, 1, -1, 5, -10 ** 59, chance.randrange(-10 ** 60 + 1, 10 ** 60)])
+    return chance.choice([("is", number), ("number", chance.randrange(many)), ("letter",), ("way",), ("first",)])
+
+
+def random_deed(chance, many):
+    """Any deed."""
+    word = chance.choice(["set", "add", "times", "put", "drop", "send", "send", "say", "skip"])
+    value = random_value(chance, many)
+    if word in ("set", "add", "times"):
+        return (word, chance.randrange(many), value)
+    if word == "drop":
+        return (word,)
+    if word == "send":
+        return (word, chance.randrange(4), value)
+    if word == "skip":
+        return (word, value, random_value(chance, many), chance.choice([1, 2, 3, 24]))
+    return (word, value)
+
+
+def random_machine(chance):
+    """Any machine."""
+    modulus = chance.choice([2, 3, 7, 1000, 10 ** 12])
+    numbers = [chance.randrange(modulus) for i in range(chance.randrange(1, 5))]
+    row = [chance.randrange(modulus) for i in range(chance.choice([0, 0, 1, 3, 12]))]
+    deeds = [random_deed(chance, len(numbers)) for i in range(chance.choice([0, 1, 4, 8, 24]))]
+    return Machine(modulus, numbers, row, deeds)
+
+
+def random_net(chance):
+    """Any net that has a way and a first letter."""
+    many = chance.randrange(1, 6)
+    machines = [random_machine(chance) for m in range(many)]
+    ends = [(chance.randrange(many), chance.randrange(many)) for way in range(chance.randrange(1, 11))]
+    ways = [(source, goal, chance.choice(["row", "heap"])) for source, goal in ends]
+    letters = [(chance.randrange(len(ways)), chance.randrange(-99, 99)) for i in range(chance.randrange(1, 21))]
+    return Net(machines, ways, letters)
