@@ -7,47 +7,7 @@ from cutrestore.errors import NetError, NoCount, NoLetter, NoMachine, NotFirst
 from cutrestore.machines import Machine
 from cutrestore.nets import Net
 from cutrestore.runs import Run, played_run
-from things import copied, counter, random_net
-
-BIG = 10 ** 59
-
-
-def two_counters(sort="row"):
-    """Two counters that send to one another, with three letters for the one and one for the other."""
-    ways = [(0, 1, sort), (1, 0, sort)]
-    return Net([counter(10), counter(100, 50)], ways, [(1, 3), (1, 4), (0, 8), (1, -1)])
-
-
-def all_told(run):
-    """All that is told of a run."""
-    net = run.net()
-    told = [run.schedule()]
-    for m in range(len(net.machines())):
-        told += [run.count(m), run.state(m), run.words(m)]
-        for c in range(run.count(m) + 1):
-            told += [run.state_behind(m, c), run.words_behind(m, c)]
-    for way in range(len(net.ways())):
-        told += [run.lying(way), run.put_many(way)]
-        for number in range(run.put_many(way)):
-            told += [run.said(way, number), run.sent_by(way, number), run.worked_by(way, number)]
-    return told
-
-
-def picks_that_may_be(run):
-    picks = []
-    for way, (source, goal, sort) in enumerate(run.net().ways()):
-        lying = [(way, number) for number, said in run.lying(way)]
-        picks += lying if sort == "heap" else lying[:1]
-    return picks
-
-
-def random_run(chance, many):
-    run = Run(random_net(chance))
-    for turn in range(many):
-        picks = picks_that_may_be(run)
-        if picks:
-            run.pick(*chance.choice(picks))
-    return run
+from things import BIG, all_told, copied, counter, picks_that_may_be, random_run, two_counters
 
 
 class BeginTest(unittest.TestCase):

@@ -2,6 +2,9 @@
 
 from cutrestore.machines import Machine
 from cutrestore.nets import Net
+from cutrestore.runs import Run
+
+BIG = 10 ** 59
 
 # Things of all kinds that are no value, no deed, no machine, no way, no text of one.
 WRONG_THINGS = [
@@ -68,3 +71,95 @@ def random_net(chance):
     ways = [(source, goal, chance.choice(["row", "heap"])) for source, goal in ends]
     letters = [(chance.randrange(len(ways)), chance.randrange(-99, 99)) for i in range(chance.randrange(1, 21))]
     return Net(machines, ways, letters)
+
+
+def two_counters(sort="row"):
+    """Two counters that send to one another, with three letters for the one and one for the other."""
+    ways = [(0, 1, sort), (1, 0, sort)]
+    return Net([counter(10), counter(100, 50)], ways, [(1, 3), (1, 4), (0, 8), (1, -1)])
+
+
+def all_told(run):
+    """All that is told of a run."""
+    net = run.net()
+    told = [run.schedule()]
+    for m in range(len(net.machines())):
+        told += [run.count(m), run.state(m), run.words(m)]
+        for c in range(run.count(m) + 1):
+            told += [run.state_behind(m, c), run.words_behind(m, c)]
+    for way in range(len(net.ways())):
+        told += [run.lying(way), run.put_many(way)]
+        for number in range(run.put_many(way)):
+            told += [run.said(way, number), run.sent_by(way, number), run.worked_by(way, number)]
+    return told
+
+
+def picks_that_may_be(run):
+    """The picks that a run would not refuse."""
+    picks = []
+    for way, (source, goal, sort) in enumerate(run.net().ways()):
+        lying = [(way, number) for number, said in run.lying(way)]
+        picks += lying if sort == "heap" else lying[:1]
+    return picks
+
+
+def random_run(chance, many):
+    """A run of any net, with at most so many events."""
+    run = Run(random_net(chance))
+    for turn in range(many):
+        picks = picks_that_may_be(run)
+        if picks:
+            run.pick(*chance.choice(picks))
+    return run
+
+
+def lively_net(chance, most=4, first=6):
+    """A net of counters that send to one another, so that its runs go on for long."""
+    many = chance.randrange(1, most + 1)
+    ends = [(m, chance.randrange(many)) for m in range(many)]
+    ends += [(chance.randrange(many), chance.randrange(many)) for i in range(chance.randrange(0, 4))]
+    chance.shuffle(ends)
+    ways = [(source, goal, chance.choice(["row", "heap"])) for source, goal in ends]
+    letters = [(chance.randrange(len(ways)), chance.randrange(50)) for i in range(chance.randrange(1, first + 1))]
+    return Net([counter(97, m, chance.randrange(1, 4)) for m in range(many)], ways, letters)
+
+
+def lively_run(chance, many, most=4, first=6):
+    """A run of a lively net, with so many events if it can have them."""
+    run = Run(lively_net(chance, most, first))
+    for turn in range(many):
+        picks = picks_that_may_be(run)
+        if picks:
+            run.pick(*chance.choice(picks))
+    return run
+
+
+def crossing_run(many):
+    """Two machines whose events, so many of each, all hang on one of each of the row before."""
+    net = Net([counter(97), counter(97)], [(0, 1, "row"), (1, 0, "row")], [(0, 1), (1, 2)])
+    run = Run(net)
+    for number in range(many):
+        run.pick(0, number)
+        run.pick(1, number)
+    return run
+
+
+def events_of(run):
+    """The events of a run, in order."""
+    return [run.worked_by(way, number) for way, number in run.schedule()]
+
+
+def events_ahead(run):
+    """For each event of a run all that are ahead of it, by the plain words of [12]."""
+    ahead = {event: set() for event in events_of(run)}
+    for way, number in run.schedule():
+        m, c = event = run.worked_by(way, number)
+        for one in [(m, c - 1), run.sent_by(way, number)]:
+            if one in ahead:
+                ahead[event] |= {one} | ahead[one]
+    return ahead
+
+
+def counts_of(run):
+    """The cut of all counts of a run."""
+    return tuple(run.count(m) for m in range(len(run.net().machines())))
