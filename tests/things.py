@@ -1,8 +1,11 @@
 """The tests' one helper: wrong things, and machines that many tests use."""
 
+import itertools
+
+from cutrestore.cuts import orphans_of
 from cutrestore.machines import Machine
 from cutrestore.nets import Net
-from cutrestore.runs import Run
+from cutrestore.runs import Run, played_run
 
 BIG = 10 ** 59
 
@@ -16,6 +19,14 @@ WRONG_THINGS = [
     ("letter ",), (b"letter",), (b"is", 1), ("number", "0"), ("number", True), ("number", False), ("number", None),
     ("number", (0,)), ("number", [0]), ("number", -1), ("number", 4), ("number", 10 ** 59), ("number", 0, 0),
     ("n0",), ("word", 1), ("numbers", 0), ("is", {}), ("is", b"1"), object(), range(3), {"a", "b"}, lambda: 1,
+]
+
+# Lists of lists that are no points of two machines with three events each.
+WRONG_POINTS = [
+    [], [[0]], [[0], [0], [0]], [[], [0]], [[0], []], [[], []], [[[0]], [0]], [[1, 0], [0]], [[0], [0, 2, 1]],
+    [[0, 0], [0]], [[0], [0, 1, 1]], [[0], [1, 1]], [[-1], [0]], [[0], [-1, 0]], [[0, 4], [0]], [[0], [0, 4]],
+    [[0], [4]], [[BIG], [0]], [[0], [-BIG, 0]], [[0], [0, 1, 2, 3, 4]], [[3, 2, 1, 0], [0]], [[0, 2, 2, 3], [0]],
+    [[10 ** 60 - 1], [10 ** 60 - 1]], [[0, BIG], [0, BIG]],
 ]
 
 
@@ -114,9 +125,9 @@ def random_run(chance, many):
 
 
 def lively_net(chance, most=4, first=6):
-    """A net of counters that send to one another, so that its runs go on for long."""
-    many = chance.randrange(1, most + 1)
-    ends = [(m, chance.randrange(many)) for m in range(many)]
+    """A net of counters in a ring, with ways beside it, so that its runs go on for long."""
+    many = chance.choice([1] + list(range(2, most + 1)) * 3)
+    ends = [(m, (m + 1) % many) for m in range(many)]
     ends += [(chance.randrange(many), chance.randrange(many)) for i in range(chance.randrange(0, 4))]
     chance.shuffle(ends)
     ways = [(source, goal, chance.choice(["row", "heap"])) for source, goal in ends]
@@ -144,6 +155,12 @@ def crossing_run(many):
     return run
 
 
+def to_and_fro(many):
+    """One letter goes to and fro: events (0, 1) (1, 1) (0, 2) (1, 2) .., so many of each."""
+    net = Net([counter(50), counter(50)], [(0, 1, "row"), (1, 0, "row")], [(1, 1)])
+    return played_run(net, [(way, number) for number in range(many) for way in (1, 0)])
+
+
 def events_of(run):
     """The events of a run, in order."""
     return [run.worked_by(way, number) for way, number in run.schedule()]
@@ -163,3 +180,36 @@ def events_ahead(run):
 def counts_of(run):
     """The cut of all counts of a run."""
     return tuple(run.count(m) for m in range(len(run.net().machines())))
+
+
+def random_points(chance, run):
+    """Any points of a run, about half of them with 0 for each machine."""
+    points = []
+    with_noughts = chance.randrange(2) == 0
+    for count in counts_of(run):
+        counts = {c for c in range(count + 1) if chance.randrange(3 if with_noughts else 9) == 0}
+        points.append(sorted(counts | {0 if with_noughts else chance.randrange(count + 1)}))
+    return points
+
+
+def all_lines(run, points):
+    """All choices of points that could have been, one by one."""
+    return [choice for choice in itertools.product(*points) if orphans_of(run, choice) == []]
+
+
+def greatest_of(cuts):
+    """The greater count of each machine of all these cuts."""
+    return tuple(max(counts) for counts in zip(*cuts))
+
+
+def fallen(run, points, cut, falls):
+    """Where falls lead to from a cut on; each must be as the words of [16] say."""
+    cut = list(cut)
+    for fall in falls:
+        m, high, low, letter = fall
+        worker, c = run.worked_by(*letter)
+        fits = [type(fall) is tuple, letter in orphans_of(run, tuple(cut)), worker == m, cut[m] == high]
+        if fits != [True] * 4 or low != max([point for point in points[m] if point < c]):
+            raise AssertionError(("no fall", tuple(cut), fall))
+        cut[m] = low
+    return tuple(cut)
