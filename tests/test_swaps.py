@@ -142,11 +142,17 @@ class SwapsTest(unittest.TestCase):
         run = crossing_run(60)
         other = alike_schedule(random.Random(1), run)
         self.assertEqual(len(run.schedule()), 120)
-        swaps = swaps_to(run.net(), run.schedule(), other)
-        self.assertEqual(len(swaps), pairs_the_other_way_round(run.schedule(), other))
+        self.check(run.net(), run.schedule(), other)
         net = Net([counter(97), counter(97)], [(0, 0, "row"), (1, 1, "row")], [(0, 1), (1, 1)])
         one, two = [(0, number) for number in range(60)], [(1, number) for number in range(60)]
-        self.assertEqual(len(swaps_to(net, one + two, two + one)), 3600)
+        swaps = swaps_to(net, one + two, two + one)
+        self.assertEqual(len(swaps), 3600)
+        # To play all of these again would take long; each must be of a pick of either machine.
+        picks = one + two
+        for k in swaps:
+            self.assertEqual([picks[k][0], picks[k + 1][0]], [0, 1])
+            picks[k], picks[k + 1] = picks[k + 1], picks[k]
+        self.assertEqual(picks, two + one)
 
 
 class RefusedTest(unittest.TestCase):
