@@ -10,7 +10,7 @@ from cutrestore.live import Live
 from cutrestore.nets import Net
 from cutrestore.runs import Run, played_run
 from things import BIG, WRONG_THINGS, all_lines, all_told, copied, counter, counts_of, fallen, greatest_of, lively_net
-from things import picks_that_may_be, to_and_fro, two_counters
+from things import pick_any, picked, picks_that_may_be, to_and_fro, two_counters
 
 
 class Plain(Live):
@@ -72,12 +72,6 @@ class Careful(Kept):
     def ahead_of(self, way, number):
         if (way, number) in self.refused:
             raise Busy("not that one")
-
-
-def picked(live, schedule):
-    for way, number in schedule:
-        live.pick(way, number)
-    return live
 
 
 def to_and_fro_net():
@@ -415,9 +409,7 @@ class ManyStopsTest(unittest.TestCase):
             machines = list(range(len(net.machines())))
             sure = live.sure()
             for turn in range(40):
-                picks = picks_that_may_be(live.run())
-                if picks:
-                    live.pick(*chance.choice(picks))
+                pick_any(chance, live)
                 if chance.randrange(3) == 0:
                     live.keep(chance.choice(machines))
                 if chance.randrange(12) == 0:

@@ -114,13 +114,18 @@ def picks_that_may_be(run):
     return picks
 
 
+def pick_any(chance, live):
+    """Do any pick of a run or a live net that a run would not refuse, where there is one."""
+    picks = picks_that_may_be(live if isinstance(live, Run) else live.run())
+    if picks:
+        live.pick(*chance.choice(picks))
+
+
 def random_run(chance, many):
     """A run of any net, with at most so many events."""
     run = Run(random_net(chance))
     for turn in range(many):
-        picks = picks_that_may_be(run)
-        if picks:
-            run.pick(*chance.choice(picks))
+        pick_any(chance, run)
     return run
 
 
@@ -139,9 +144,7 @@ def lively_run(chance, many, most=4, first=6):
     """A run of a lively net, with so many events if it can have them."""
     run = Run(lively_net(chance, most, first))
     for turn in range(many):
-        picks = picks_that_may_be(run)
-        if picks:
-            run.pick(*chance.choice(picks))
+        pick_any(chance, run)
     return run
 
 
@@ -213,3 +216,43 @@ def fallen(run, points, cut, falls):
             raise AssertionError(("no fall", tuple(cut), fall))
         cut[m] = low
     return tuple(cut)
+
+
+def picked(live, schedule):
+    """A live net with these picks done."""
+    for way, number in schedule:
+        live.pick(way, number)
+    return live
+
+
+def machines_of(live):
+    """The numbers of the machines of a live net."""
+    return list(range(len(live.net().machines())))
+
+
+def latest_by_hearsay(run, points):
+    """The latest line by who heard what: a machine goes back while its last event heard of one that is outside."""
+    ahead = events_ahead(run)
+    cut = [counts[-1] for counts in points]
+    turns = 1
+    while turns:
+        turns = 0
+        for m in range(len(cut)):
+            while any(c > cut[one] for one, c in ahead.get((m, cut[m]), [])):
+                cut[m] = max(point for point in points[m] if point < cut[m])
+                turns += 1
+    return tuple(cut)
+
+
+def told_live(live):
+    """All that is told of a live net, of whatever way of keeping, but by what changes it."""
+    run = live.run()
+    told = [live.history(), all_told(run), live.sure(), live.stop([])]
+    asks = ["points", "reach", "number_of", "keeps", "store"]
+    told += [getattr(live, ask)(m) for ask in asks if hasattr(live, ask) for m in machines_of(live)]
+    told += [getattr(live, ask)() for ask in ["marks", "in_hand", "done_cuts"] if hasattr(live, ask)]
+    if hasattr(live, "borne"):
+        letters = [(way, number) for way in range(len(run.net().ways())) for number in range(run.put_many(way))]
+        told += [live.borne(way, number) for way, number in letters]
+        told += [live.first_cut(n) for n in range(1, 9)]
+    return told
