@@ -1,18 +1,21 @@
-"""[18, 19] and [2, 3] of each way of keeping: drawn deeds, held against a plain player."""
+"""[2, 3], [18, 19], [24, 25] of all five ways of keeping: drawn deeds, held against a plain player."""
 
 import random
 import unittest
 
 from cutrestore.alone import Alone
 from cutrestore.cuts import orphans_of
-from cutrestore.errors import NetError, NoLetter, NoMachine
+from cutrestore.errors import NetError, NoLetter, NoMachine, NotFirst
+from cutrestore.marked import Marked
 from cutrestore.numbered import Numbered
+from cutrestore.resting import rest_live
 from cutrestore.runs import Run, played_run
+from cutrestore.shown import shown_words
 from cutrestore.written import Ahead, Passing
 from things import BIG, all_told, copied, counts_of, crossing_run, fallen, latest_by_hearsay, lively_net, machines_of
-from things import picked, picks_that_may_be, told_live, two_counters
+from things import picked, picks_that_may_be, plainly_played, told_live, two_counters
 
-SORTS = {"alone": Alone, "numbers": Numbered, "ahead": Ahead, "passing": Passing}
+SORTS = {"alone": Alone, "numbers": Numbered, "ahead": Ahead, "passing": Passing, "marks": Marked}
 
 
 class Player:
@@ -23,9 +26,14 @@ class Player:
         self.kept = [[(0, 0)] for machine in net.machines()]
         self.written = [0 for machine in net.machines()]
         self.bears = {}
+        # Of the cut in hand: where machines kept, where marks lie, which ways' parts are open and what came there.
+        self.hand, self.lies, self.parts, self.done = None, {}, {}, []
+        self.played = Run(net)
 
     def run(self):
-        return played_run(self.net, self.picks)
+        if self.played.schedule() != self.picks:
+            self.played = played_run(self.net, self.picks)
+        return self.played
 
     def points(self, m):
         if self.sort in ("ahead", "passing"):
@@ -39,8 +47,10 @@ class Player:
         return sorted(set(self.points(m)) | {count})
 
     def pick(self, way, number):
-        before, run = self.run(), self.run()
-        m, c = event = run.pick(way, number)
+        before, run = self.run(), played_run(self.net, self.picks + [(way, number)])
+        m, c = event = run.worked_by(way, number)
+        if self.hand and self.hand[m] is not None and way in self.parts and self.parts[way][1]:
+            self.parts[way][0].append((number, run.said(way, number)))
         mine = self.kept[m][-1][1]
         borne = self.bears.get((way, number), 0)
         if self.sort == "numbers" and borne > mine:
@@ -68,6 +78,49 @@ class Player:
             self.kept[m].append((count, 0))
         return count
 
+    def mark(self, m):
+        self.hand = [None for machine in self.net.machines()]
+        self.parts = {way: [[], True] for way in range(len(self.net.ways()))}
+        return self.come(m)
+
+    def take(self, way):
+        del self.lies[way]
+        # What came ahead of the mark is closed; what comes behind it is not of this cut.
+        self.parts[way][1] = False
+        return self.come(self.net.ways()[way][1])
+
+    def come(self, m):
+        run = self.run()
+        if self.hand[m] is None:
+            self.hand[m] = run.count(m)
+            self.lies.update({way: run.put_many(way) for way in self.net.ways_out(m)})
+        c = self.hand[m]
+        if None not in self.hand and not [way for way in self.parts if self.parts[way][1]]:
+            self.finish(tuple(self.hand), [self.parts[way][0] for way in sorted(self.parts)])
+        return c
+
+    def finish(self, counts, lists):
+        self.done.append((counts, lists))
+        self.kept = [keeps + ([(c, 0)] if keeps[-1][0] < c else []) for keeps, c in zip(self.kept, counts)]
+        self.hand, self.lies = None, {}
+
+    def marks(self):
+        return sorted(self.lies.items())
+
+    def may_be(self):
+        picks = picks_that_may_be(self.run())
+        return [(way, number) for way, number in picks if number < self.lies.get(way, number + 1)]
+
+    def rest(self, most):
+        many = 0
+        while many < most and self.may_be():
+            self.pick(*min(self.may_be()))
+            many += 1
+        return many
+
+    def shown(self, m):
+        return self.run().words_behind(m, self.sure()[m])
+
     def line(self, stopped):
         machines = range(len(self.kept))
         return latest_by_hearsay(self.run(), [self.points(m) if m in stopped else self.reach(m) for m in machines])
@@ -77,6 +130,8 @@ class Player:
 
     def stop(self, stopped):
         run, cut = self.run(), self.line(stopped)
+        if stopped:
+            self.hand, self.lies = None, {}
         events = [run.worked_by(*pick) for pick in self.picks]
         self.picks = [pick for pick, (m, c) in zip(self.picks, events) if c <= cut[m]]
         self.kept = [[keep for keep in keeps if keep[0] <= c] for keeps, c in zip(self.kept, cut)]
@@ -94,6 +149,10 @@ class Player:
         return went
 
     def settle(self):
+        if self.sort == "marks":
+            run = self.run()
+            self.finish(counts_of(run), [run.lying(way) for way in range(len(self.net.ways()))])
+            return self.sure()
         for m in range(len(self.kept)):
             (self.write if self.sort in ("ahead", "passing") else self.keep)(m)
         return self.sure()
@@ -111,44 +170,69 @@ class Player:
         return [keep for keep in self.kept[m] if keep[1] > 0]
 
 
-def drawn_deed(chance, machines, run):
-    """The name of a deed, and what is handed to it."""
-    name = chance.choice(["pick"] * 8 + ["keep"] * 2 + ["write", "stop", "let_go", "settle"])
-    if name == "pick":
-        picks = picks_that_may_be(run)
-        return (name, list(chance.choice(picks))) if picks else ("stop", [machines])
-    if name == "stop":
-        return (name, [chance.sample(machines, chance.randrange(len(machines) + 1))])
-    return (name, [chance.choice(machines)] if name in ("keep", "write") else [])
+def deeds_of(sort):
+    """The names of the deeds that a way of keeping knows, often those that are to be drawn often."""
+    deeds = ["pick"] * 12 + ["stop", "let_go", "settle", "rest"]
+    if sort == "marks":
+        return deeds * 2 + ["mark"] * 6 + ["take"] * 18
+    return deeds + ["keep"] * 3 + (["write"] if sort == "passing" else [])
 
 
-def is_known(sort, name):
-    """Whether a way of keeping knows a deed."""
-    return name != "write" or sort == "passing"
+def drawn_deed(chance, player):
+    """The name of a deed that is not refused, and what is handed to it."""
+    machines = list(range(len(player.kept)))
+    name = chance.choice(deeds_of(player.sort))
+    if name == "pick" and player.may_be():
+        return (name, list(chance.choice(player.may_be())))
+    if name == "rest":
+        return (name, [chance.choice([0, 1, 2, 5])])
+    if name in ("let_go", "settle"):
+        return (name, [])
+    if name in ("keep", "write") or name == "mark" and player.hand is None:
+        return (name, [chance.choice(machines)])
+    run = player.run()
+    ways = [way for way, ahead in player.marks() if not run.lying(way) or run.lying(way)[0][0] >= ahead]
+    if name == "take" and ways:
+        return (name, [chance.choice(ways)])
+    if name == "stop" or name == "pick":
+        return ("stop", [chance.sample(machines, chance.randrange(len(machines) + 1))])
+    return ("rest", [1])
+
+
+def done_deed(live, name, handed):
+    """Do a deed by its name: what is told."""
+    return rest_live(live, *handed) if name == "rest" else getattr(live, name)(*handed)
+
+
+def net_for(chance, sort):
+    """A lively net that a way of keeping takes."""
+    return lively_net(chance, sorts=("row",) if sort == "marks" else ("row", "heap"))
 
 
 class DrawnDeedsTest(unittest.TestCase):
     def play(self, sort, seed, many):
         chance = random.Random(seed)
-        net = lively_net(chance)
+        net = net_for(chance, sort)
         live, player = SORTS[sort](net), Player(sort, net)
-        sure = live.sure()
+        sure, shown = live.sure(), [[] for machine in net.machines()]
         for turn in range(many):
-            name, handed = drawn_deed(chance, machines_of(live), player.run())
-            if is_known(sort, name):
-                self.do(live, player, name, handed)
+            name, handed = drawn_deed(chance, player)
+            self.do(live, player, name, handed)
             self.compare(live, player)
+            # Neither the sure line nor a word that was shown is ever taken back.
             self.assertTrue(all(low <= high for low, high in zip(sure, live.sure())))
-            sure = live.sure()
-        return live
+            now = [shown_words(live, m) for m in machines_of(live)]
+            self.assertEqual(now, [player.shown(m) for m in machines_of(live)])
+            self.assertEqual([words[:len(before)] for before, words in zip(shown, now)], shown)
+            sure, shown = live.sure(), now
+        return player
 
     def do(self, live, player, name, handed):
         before, run = told_live(live) if handed == [[]] else None, live.run()
         handed_before = copied(handed)
         reached = [live.points(m) if name == "stop" and m in handed[0] else live.reach(m) for m in machines_of(live)]
-        told = getattr(live, name)(*handed)
+        told = done_deed(live, name, handed)
         self.assertEqual(handed, handed_before)
-        expected = getattr(player, name)(*handed)
         if name == "stop":
             cut, falls = told
             self.assertEqual([type(told), type(cut), type(falls)], [tuple, tuple, list])
@@ -159,21 +243,52 @@ class DrawnDeedsTest(unittest.TestCase):
                 self.assertEqual([falls, told_live(live)], [[], before])
         if name == "settle":
             self.assertEqual(told, counts_of(live.run()))
+            words = [live.run().words(m) for m in machines_of(live)]
+            self.assertEqual([shown_words(live, m) for m in machines_of(live)], words)
         if name == "let_go":
             self.assertEqual(live.let_go(), [[] for m in machines_of(live)])
-        self.assertEqual(told, expected)
+        self.assertEqual(told, getattr(player, name)(*handed))
 
     def compare(self, live, player):
-        run = player.run()
+        machines, run = machines_of(live), player.run()
         self.assertEqual(live.history(), player.picks)
         self.assertEqual(all_told(live.run()), all_told(run))
-        self.assertEqual(live.sure(), player.sure())
-        for m in machines_of(live):
-            self.assertEqual([live.points(m), live.reach(m)], [player.points(m), player.reach(m)])
+        self.assertEqual([live.sure(), told_live(live)], [player.sure(), told_live(live)])
+        self.assertEqual([live.points(m) for m in machines], [player.points(m) for m in machines])
+        self.assertEqual([live.reach(m) for m in machines], [player.reach(m) for m in machines])
         if player.sort in ("ahead", "passing"):
-            self.assertEqual([live.store(m) for m in machines_of(live)], [player.store(m) for m in machines_of(live)])
+            self.assertEqual([live.store(m) for m in machines], [player.store(m) for m in machines])
         if player.sort == "numbers":
             self.compare_numbers(live, player, run)
+        if player.sort == "marks":
+            self.assertEqual([live.marks(), live.in_hand()], [player.marks(), player.hand])
+            self.assertEqual(live.done_cuts(), player.done)
+            self.check_held_up(live, player, run)
+        self.check_played(live)
+
+    def check_held_up(self, live, player, run):
+        """A mark holds up the letters behind it, and waits for those ahead of it."""
+        for way, ahead in live.marks():
+            letters = [number for number, said in run.lying(way)]
+            for number in letters:
+                if number >= ahead:
+                    with self.assertRaises(NotFirst):
+                        live.pick(way, number)
+            if letters and letters[0] < ahead:
+                with self.assertRaises(NotFirst):
+                    live.take(way)
+        self.assertEqual([live.marks(), live.history()], [player.marks(), player.picks])
+
+    def check_played(self, live):
+        """The history, plainly played, leads to where the net stands; each letter was worked on once, or lies there."""
+        run, history = live.run(), live.history()
+        ways = range(len(run.net().ways()))
+        states, words, lying = plainly_played(run.net(), history)
+        self.assertEqual(states, [run.state(m) for m in machines_of(live)])
+        self.assertEqual(words, [run.words(m) for m in machines_of(live)])
+        self.assertEqual(lying, [run.lying(way) for way in ways])
+        letters = history + [(way, number) for way in ways for number, said in lying[way]]
+        self.assertEqual(sorted(letters), [(way, number) for way in ways for number in range(run.put_many(way))])
 
     def compare_numbers(self, live, player, run):
         for m in machines_of(live):
@@ -186,11 +301,15 @@ class DrawnDeedsTest(unittest.TestCase):
 
     def test_drawn_deeds(self):
         for sort in SORTS:
-            events = 0
-            for seed in range(25):
+            events = cuts = 0
+            for seed in range(20):
                 with self.subTest(sort=sort, seed=seed):
-                    events += len(self.play(sort, seed, 40).history())
+                    player = self.play(sort, seed, 80 if sort == "marks" else 40)
+                    events += len(player.picks)
+                    # Cuts that were done by marks, not by settling alone.
+                    cuts += len([counts for counts, lists in player.done if any(lists)])
             self.assertGreater(events, 100)
+            self.assertTrue(sort != "marks" or cuts > 20)
 
     def test_long(self):
         for sort in SORTS:
@@ -221,7 +340,7 @@ class RefusedTest(unittest.TestCase):
                 with self.subTest((sort, stopped)), self.assertRaises(NoMachine):
                     live.stop(stopped)
                 self.assertEqual(told_live(live), before)
-            for ask in ("points", "reach", "keep", "write", "store", "keeps", "number_of"):
+            for ask in ("points", "reach", "keep", "write", "store", "keeps", "number_of", "mark"):
                 for m in (2, -1, BIG, -BIG):
                     if hasattr(live, ask):
                         with self.subTest((sort, ask, m)), self.assertRaises(NoMachine):
@@ -235,26 +354,30 @@ class LetGoTest(unittest.TestCase):
             went = 0
             for seed in range(30):
                 went += self.play(sort, seed)
-            self.assertGreater(went, 50)
+            self.assertGreater(went, 20)
 
     def play(self, sort, seed):
         """The same deeds with letting go and without: how many points went."""
         chance = random.Random(seed)
-        net = lively_net(chance)
-        live, other = SORTS[sort](net), SORTS[sort](net)
+        net = net_for(chance, sort)
+        live, other, player = SORTS[sort](net), SORTS[sort](net), Player(sort, net)
         went = 0
-        for turn in range(40):
-            name, handed = drawn_deed(chance, machines_of(live), other.run())
+        for turn in range(50):
+            name, handed = drawn_deed(chance, player)
             if name == "let_go":
                 gone = live.let_go()
                 self.check_gone(live, other, gone)
                 went += sum(len(counts) for counts in gone)
-            elif is_known(sort, name):
-                self.assertEqual(getattr(live, name)(*handed), getattr(other, name)(*handed))
+            else:
+                told = done_deed(other, name, handed)
+                getattr(player, name)(*handed)
+                self.assertEqual(done_deed(live, name, handed), told)
             self.assertEqual([live.history(), live.sure()], [other.history(), other.sure()])
             if sort == "numbers":
                 self.assertEqual([live.number_of(m) for m in machines_of(live)],
                                  [other.number_of(m) for m in machines_of(live)])
+            if sort == "marks":
+                self.assertEqual(live.done_cuts(), other.done_cuts())
         return went
 
     def check_gone(self, live, other, gone):
@@ -268,11 +391,11 @@ class LetGoTest(unittest.TestCase):
 
 
 class WithoutStopsTest(unittest.TestCase):
-    def test_settled_all_stand_alike(self):
+    def test_settled_all_stand_alike_and_show_the_same_words(self):
         for seed in range(20):
             chance = random.Random(seed)
-            run = Run(lively_net(chance))
-            nets = [kind(run.net()) for kind in SORTS.values()]
+            run = Run(net_for(chance, "marks" if seed % 2 else "all but marks"))
+            nets = [SORTS[sort](run.net()) for sort in SORTS if sort != "marks" or seed % 2]
             for turn in range(30):
                 picks = picks_that_may_be(run)
                 if picks:
@@ -281,11 +404,14 @@ class WithoutStopsTest(unittest.TestCase):
                     for live in nets:
                         live.pick(*pick)
                 live = chance.choice(nets)
-                chance.choice([live.keep, lambda m: live.let_go()])(chance.choice(machines_of(live)))
+                m = chance.choice(machines_of(live))
+                chance.choice([live.let_go, live.settle] if isinstance(live, Marked) else [lambda: live.keep(m)])()
             for live in nets:
                 self.assertEqual(live.settle(), counts_of(run))
                 self.assertEqual([live.sure(), live.settle()], [counts_of(run)] * 2)
                 self.assertEqual(all_told(live.run()), all_told(run))
+                machines = machines_of(live)
+                self.assertEqual([shown_words(live, m) for m in machines], [run.words(m) for m in machines])
 
 
 class NothingKeptTest(unittest.TestCase):

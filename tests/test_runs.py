@@ -7,7 +7,7 @@ from cutrestore.errors import NetError, NoCount, NoLetter, NoMachine, NotFirst
 from cutrestore.machines import Machine
 from cutrestore.nets import Net
 from cutrestore.runs import Run, played_run
-from things import BIG, all_told, copied, counter, picks_that_may_be, random_run, two_counters
+from things import BIG, all_told, copied, counter, picks_that_may_be, plainly_played, random_run, two_counters
 
 
 class BeginTest(unittest.TestCase):
@@ -302,6 +302,14 @@ class ManyRunsTest(unittest.TestCase):
             self.assertEqual([run.worked_by(way, n) for n in numbers], [worked.get((way, n)) for n in numbers])
             lying = [(n, letters[n][0]) for n in numbers if (way, n) not in worked]
             self.assertEqual(run.lying(way), lying)
+
+    def test_plainly_played_it_leads_there(self):
+        for seed in range(60):
+            run = random_run(random.Random(seed), 20)
+            states, words, lying = plainly_played(run.net(), run.schedule())
+            self.assertEqual(states, [run.state(m) for m in range(len(states))])
+            self.assertEqual(words, [run.words(m) for m in range(len(states))])
+            self.assertEqual(lying, [run.lying(way) for way in range(len(lying))])
 
     def test_refused_picks_change_nothing(self):
         run = random_run(random.Random(3), 15)

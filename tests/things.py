@@ -121,6 +121,62 @@ def pick_any(chance, live):
         live.pick(*chance.choice(picks))
 
 
+def plain_worth(value, numbers, row, place, said):
+    """What a value is, by the plain words of [5]."""
+    worths = {"letter": said, "way": place, "first": row[0] if row else 0}
+    if value[0] == "number":
+        return numbers[value[1]]
+    return value[1] if value[0] == "is" else worths[value[0]]
+
+
+def plain_worked(machine, numbers, row, place, said):
+    """Do a machine's deeds, by the plain words of [6], to lists: the letters sent and the words."""
+    sent, words, left_out = [], [], 0
+    for deed in machine.deeds():
+        if left_out:
+            left_out -= 1
+            continue
+        worths = [plain_worth(part, numbers, row, place, said) % machine.modulus()
+                  for part in deed if isinstance(part, tuple)]
+        if deed[0] in ("set", "add", "times"):
+            old = numbers[deed[1]]
+            new = {"set": worths[0], "add": old + worths[0], "times": old * worths[0]}[deed[0]]
+            numbers[deed[1]] = new % machine.modulus()
+        elif deed[0] == "put":
+            row[:] = row if len(row) == 12 else row + worths
+        elif deed[0] == "drop":
+            row[:] = row[1:]
+        elif deed[0] == "send":
+            sent.append((deed[1], worths[0]))
+        elif deed[0] == "say":
+            words.append(worths[0])
+        elif worths[0] < worths[1]:
+            left_out = deed[3]
+    return sent, words
+
+
+def plainly_played(net, schedule):
+    """The states, the words and the letters that lie there behind a schedule, by a player of the tests' own."""
+    states = [(list(machine.first_state()[0]), list(machine.first_state()[1])) for machine in net.machines()]
+    words = [[] for machine in net.machines()]
+    lying, put = [{} for way in net.ways()], [0 for way in net.ways()]
+    letters = net.letters()
+    for pick in [None] + schedule:
+        if pick is not None:
+            way, number = pick
+            m = net.ways()[way][1]
+            place = [one for one in range(len(lying)) if net.ways()[one][1] == m].index(way)
+            sent, said = plain_worked(net.machines()[m], *states[m], place, lying[way].pop(number))
+            words[m] += said
+            out = [one for one in range(len(lying)) if net.ways()[one][0] == m]
+            letters = [(out[j], worth) for j, worth in sent if j < len(out)]
+        for way, said in letters:
+            lying[way][put[way]] = said
+            put[way] += 1
+    states = [(tuple(numbers), tuple(row)) for numbers, row in states]
+    return states, words, [sorted(letters.items()) for letters in lying]
+
+
 def random_run(chance, many):
     """A run of any net, with at most so many events."""
     run = Run(random_net(chance))
@@ -129,13 +185,13 @@ def random_run(chance, many):
     return run
 
 
-def lively_net(chance, most=4, first=6):
+def lively_net(chance, most=4, first=6, sorts=("row", "heap")):
     """A net of counters in a ring, with ways beside it, so that its runs go on for long."""
     many = chance.choice([1] + list(range(2, most + 1)) * 3)
     ends = [(m, (m + 1) % many) for m in range(many)]
     ends += [(chance.randrange(many), chance.randrange(many)) for i in range(chance.randrange(0, 4))]
     chance.shuffle(ends)
-    ways = [(source, goal, chance.choice(["row", "heap"])) for source, goal in ends]
+    ways = [(source, goal, chance.choice(sorts)) for source, goal in ends]
     letters = [(chance.randrange(len(ways)), chance.randrange(50)) for i in range(chance.randrange(1, first + 1))]
     return Net([counter(97, m, chance.randrange(1, 4)) for m in range(many)], ways, letters)
 
@@ -255,4 +311,4 @@ def told_live(live):
         letters = [(way, number) for way in range(len(run.net().ways())) for number in range(run.put_many(way))]
         told += [live.borne(way, number) for way, number in letters]
         told += [live.first_cut(n) for n in range(1, 9)]
-    return told
+    return copied(told)
